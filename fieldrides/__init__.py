@@ -1,0 +1,1 @@
+"""Fieldrides: merging books for the records of a store."""

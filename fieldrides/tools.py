@@ -1,0 +1,46 @@
+"""Signs, kinds of order, and small tools for records."""
+
+from fieldrides.errors import BadRecord
+
+
+def sign(older, newer):
+    """The sign of two values: -1 if the older one is less, 0 if both are the same, 1 if it is more."""
+    if older < newer:
+        return -1
+    if older > newer:
+        return 1
+    return 0
+
+
+def signs(older, newer):
+    """The row of signs of two records."""
+    if len(older) != len(newer):
+        raise BadRecord(newer)
+    return tuple([sign(value, other) for value, other in zip(older, newer)])
+
+
+def better(kind, value, other):
+    """True if the value is better than the other one in a field of this kind."""
+    if kind == "up":
+        return value > other
+    if kind == "down":
+        return value < other
+    return False
+
+
+def raised(kind, value, by):
+    """The value raised by a number."""
+    if kind == "down":
+        return value - by
+    return value + by
+
+
+def check_record(fields, record):
+    """Raise BadRecord if the record does not have one value for each field."""
+    if len(record) != fields:
+        raise BadRecord(record)
+
+
+def with_value(record, field, value):
+    """The record with another value in one field."""
+    return record[:field] + (value,) + record[field + 1:]

@@ -1,0 +1,63 @@
+"""The names of the interface: each one is defined in its own file, with the arguments that the document lists."""
+
+import importlib
+import inspect
+import unittest
+
+FUNCTIONS = {
+    "tools": ["sign(older, newer)", "signs(older, newer)", "better(kind, value, other)", "raised(kind, value, by)"],
+    "trees": [
+        "follow(tree, row)", "ends(tree)", "asked(tree)", "least_tree(tree, field, fields)",
+        "needed_fields(tree, field, fields)", "mirror_tree(tree)",
+    ],
+    "treetext": ["write_tree(tree)", "read_tree(text)"],
+    "books": ["least_book(book)", "mirror_book(book)", "differing_pair(first, second)", "unfair_pair(book)"],
+    "booktext": ["write_book(book)", "read_book(text)"],
+    "forests": [
+        "first_unlike(forest, field, first, second)", "turned_forest(forest)", "mirror_forest(forest)",
+        "book_of(forest)",
+    ],
+    "words": [
+        "tree_of_word(word)", "word_of_tree(tree, field, fields)", "stand_together(first, second)",
+        "forest_of_words(fields, words)",
+    ],
+    "foresttext": ["write_forest(forest)", "read_forest(text)"],
+    "judge": ["decide(book, *, order='rows')", "check_verdict(book, verdict, *, order='rows')"],
+}
+
+CLASSES = {
+    ("books", "Book"): ["__init__(self, trees)", "__call__(self, older, newer)", "side(self, field, row)"],
+    ("forests", "Forest"): [
+        "__init__(self, parents, kinds)", "__call__(self, older, newer)", "path(self, field)", "word(self, field)",
+        "children(self, field)", "beneath(self, field)",
+    ],
+    ("judge", "Verdict"): ["__init__(self, forest, settled, records)", "__bool__(self)"],
+}
+
+
+class InterfaceTest(unittest.TestCase):
+    def test_functions(self):
+        for name, signatures in FUNCTIONS.items():
+            module = importlib.import_module(f"fieldrides.{name}")
+            for text in signatures:
+                function = getattr(module, text.partition("(")[0])
+                self.assertEqual(function.__module__, module.__name__)
+                self.assertEqual(function.__name__ + str(inspect.signature(function)), text)
+
+    def test_classes(self):
+        for (name, kind), signatures in CLASSES.items():
+            module = importlib.import_module(f"fieldrides.{name}")
+            found = getattr(module, kind)
+            self.assertEqual(found.__module__, module.__name__)
+            for text in signatures:
+                method = vars(found)[text.partition("(")[0]]
+                self.assertEqual(method.__name__ + str(inspect.signature(method)), text)
+
+    def test_properties(self):
+        forest = importlib.import_module("fieldrides.forests").Forest
+        for name in ("roots", "leaves", "fair"):
+            self.assertIsInstance(vars(forest)[name], property)
+
+
+if __name__ == "__main__":
+    unittest.main()
