@@ -55,6 +55,8 @@ class ForestTest(unittest.TestCase):
     def test_parents_that_are_no_fields(self):
         self.expect_bad([1], ["up"], 0)
         self.expect_bad([None, -1], ["up", "up"], 1)
+        self.expect_bad([None, -1, None], ["up", "up", "up"], 1)
+        self.expect_bad([None, -2, None], ["up", "first", "last"], 1)
         self.expect_bad([None, 3, 4], ["up", "up", "up"], 1)
         self.expect_bad([0, 9], ["up", "up"], 1)
 
@@ -70,7 +72,7 @@ class ForestTest(unittest.TestCase):
         self.expect_bad([None, 0], ["first", "up"], 0)
         self.expect_bad([None, 0], ["last", "up"], 0)
         self.expect_bad([1, None], ["up", "last"], 1)
-        self.expect_bad([2, 1 - 1, None, 2], ["last", "up", "first", "up"], 0)
+        self.expect_bad([2, 0, None, 2], ["last", "up", "first", "up"], 0)
         for kind in KINDS:
             self.assertEqual(Forest([None, None], [kind, kind]).kinds, (kind, kind))
 

@@ -232,6 +232,18 @@ class DecideTest(JudgeTest):
                 refused += 1
         self.assertGreater(refused, 300)
 
+    def test_a_wrong_merge_of_many_better_fields_must_not_hide_another(self):
+        other = {"older": "newer", "newer": "older"}
+        trees = book_of(Forest([None] * 5, ["up"] * 5)).trees
+        wrong = {(0, (1, -1, -1, -1, -1)), (2, (0, 0, -1, -1, -1)), (2, (1, 0, -1, -1, -1))}
+        book = Book([
+            tree_of_function(5, lambda row: (
+                other[end_of(tree, row)] if (field, row) in wrong else end_of(tree, row)
+            ))
+            for field, tree in enumerate(trees)
+        ])
+        self.check_no(book, decide(book))
+
     def test_pairs_of_fields_that_make_no_forest(self):
         rng = random.Random(5)
         answers = [0, 0]
@@ -328,7 +340,8 @@ class CheckVerdictTest(unittest.TestCase):
         good = self.settled
         wrong = [None, (), (good[0],), good + ((),), (good[1], good[0]), ((), ()), (good[0], ()),
                  (good[0][:2], good[1]), (good[0] + (None,), good[1]), ((0, 0, 0), good[1]), ((0, 1, 0), good[1]),
-                 ((None, None, 0), good[1]), ((0, None, 2), good[1]), ((0, None, -2), good[1]), ((10 ** 60, None, 0), good[1]),
+                 ((None, None, 0), good[1]), ((0, None, 2), good[1]), ((0, None, -2), good[1]),
+                 ((10 ** 60, None, 0), good[1]),
                  (good[0], (0, 1, None, 1, None, None, None)), (good[0], (0, 0, None, 1, None, None, 0)),
                  (good[0], (0, 1, 1, 1, None, None, 0)), (good[0], (0, 1, None, 1, 0, 0, 0))]
         for settled in wrong:

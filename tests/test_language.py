@@ -10,7 +10,8 @@ PACKAGE = Path(__file__).resolve().parent.parent / "fieldrides"
 FILES = sorted(PACKAGE.rglob("*.py"))
 ALLOWED_BUILTINS = set(
     "len range enumerate zip min max sum abs sorted reversed int str bool bytes list tuple dict set frozenset"
-    " isinstance ord repr any all divmod pow getattr hasattr setattr iter next map super property ValueError KeyError".split()
+    " isinstance ord repr any all divmod pow getattr hasattr setattr"
+    " iter next map super property ValueError KeyError".split()
 )
 DUNDERS = set(
     "__init__ __eq__ __repr__ __str__ __len__ __call__ __iter__ __bool__ __or__ __and__ __lt__ __contains__".split()
