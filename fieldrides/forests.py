@@ -1,9 +1,9 @@
 """Forests: fields that ride on other fields."""
 
 from fieldrides.books import Book
-from fieldrides.errors import BadForest, BadPlace
+from fieldrides.errors import BadForest, NotFair
 from fieldrides.kinds import is_ranked, side_by, tree_along
-from fieldrides.tools import check_record, signs
+from fieldrides.tools import check_place, check_record, raised, signs
 
 MOST_FIELDS = 16
 TURNED = {"up": "down", "down": "up", "first": "first", "last": "last"}
@@ -92,6 +92,13 @@ def check_forest(parents, kinds):
             raise BadForest(field)
 
 
+def check_fair(forest):
+    """Raise NotFair if a field has the kind "first" or "last"."""
+    for field, kind in enumerate(forest.kinds):
+        if not is_ranked(kind):
+            raise NotFair(field)
+
+
 def first_marked(forest, field, row):
     """The first field on the path of the field whose sign is not 0, or None."""
     for step in forest.path(field):
@@ -110,8 +117,7 @@ def forest_side(forest, field, row):
 
 def first_unlike(forest, field, first, second):
     """The first field on the path of the field in which the two records have unlike values, or None."""
-    if field < 0 or field >= forest.fields:
-        raise BadPlace(field)
+    check_place(forest.fields, field)
     check_record(forest.fields, first)
     check_record(forest.fields, second)
     return first_marked(forest, field, signs(first, second))
@@ -130,3 +136,8 @@ def mirror_forest(forest):
 def book_of(forest):
     """The book that merges all records like the forest."""
     return Book([tree_along(forest.word(field)) for field in range(forest.fields)])
+
+
+def zeros_raised(forest, fields):
+    """The record of zeros with these fields raised by 1."""
+    return tuple([raised(kind, 0, 1) if field in fields else 0 for field, kind in enumerate(forest.kinds)])

@@ -1,6 +1,6 @@
 """Signs, kinds of order, and small tools for records."""
 
-from fieldrides.errors import BadRecord
+from fieldrides.errors import BadPlace, BadRecord, NoRecord
 
 
 def sign(older, newer):
@@ -39,6 +39,27 @@ def check_record(fields, record):
     """Raise BadRecord if the record does not have one value for each field."""
     if len(record) != fields:
         raise BadRecord(record)
+
+
+def check_records(fields, records):
+    """Raise NoRecord if there is no record, or BadRecord for the first one with a wrong number of values."""
+    if len(records) == 0:
+        raise NoRecord("there is no record")
+    for record in records:
+        check_record(fields, record)
+
+
+def check_place(many, place):
+    """Raise BadPlace if the place is not one of so many that are numbered from 0."""
+    if place < 0 or place >= many:
+        raise BadPlace(place)
+
+
+def without(records, index):
+    """A new list of the records without the one with this index."""
+    others = list(records)
+    del others[index]
+    return others
 
 
 def with_value(record, field, value):

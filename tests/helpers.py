@@ -144,3 +144,55 @@ def rows_alike(book):
 
 def disguised_book_trees(rng, forest, times):
     return [disguised(rng, tree, forest.fields, times) for tree in book_of(forest).trees]
+
+
+def ways_end(parents):
+    for field in range(len(parents)):
+        seen = []
+        while field is not None:
+            if field in seen:
+                return False
+            seen.append(field)
+            field = parents[field]
+    return True
+
+
+def all_shapes(fields):
+    """All tuples of parents that some forest has."""
+    return [parents for parents in product((None, *range(fields)), repeat=fields) if ways_end(parents)]
+
+
+def path_of(parents, field):
+    return (() if parents[field] is None else path_of(parents, parents[field])) + (field,)
+
+
+def random_record(rng, fields, values=3):
+    return tuple([rng.randrange(values) for _ in range(fields)])
+
+
+def random_row(rng, fields, many, values=3):
+    return [random_record(rng, fields, values) for _ in range(many)]
+
+
+def end_in_turn(forest, records):
+    """The end of the row when the records are merged from left to right, word for word after point 21."""
+    end = records[0]
+    for record in records[1:]:
+        end = merged_by_words(forest.parents, forest.kinds, end, record)
+    return end
+
+
+def end_of_neighbours(rng, forest, records):
+    """The end of the row when neighbours are merged in a random order."""
+    row = list(records)
+    while len(row) > 1:
+        at = rng.randrange(len(row) - 1)
+        row[at:at + 2] = [merged_by_words(forest.parents, forest.kinds, row[at], row[at + 1])]
+    return row[0]
+
+
+def end_in_any_order(rng, forest, records):
+    """The end when records are taken in a random order, and some of them several times."""
+    lot = list(records) + rng.choices(records, k=3)
+    rng.shuffle(lot)
+    return end_of_neighbours(rng, forest, lot)

@@ -23,6 +23,17 @@ FUNCTIONS = {
     ],
     "foresttext": ["write_forest(forest)", "read_forest(text)"],
     "judge": ["decide(book, *, order='rows')", "check_verdict(book, verdict, *, order='rows')"],
+    "numbers": [
+        "count_shapes(fields)", "count_fair(fields)", "count_forests(fields)", "count_by_roots(fields, roots)",
+        "count_by_leaves(fields, leaves)", "count_low(fields, height)", "shape_word(parents)", "number_of(forest)",
+        "forest_at(fields, number)", "fair_forests(fields)",
+    ],
+    "teller": ["most_questions(fields)", "fewest_questions(fields)"],
+    "rows": [
+        "row_end(forest, records)", "class_count(forest)", "keepers(forest, records)", "needy_row(forest)",
+        "can_strike(forest, records, index)",
+    ],
+    "moments": ["press_moments(forest, records, *, behind=True)", "bad_moment(forest, *, behind=True)"],
 }
 
 CLASSES = {
@@ -32,6 +43,8 @@ CLASSES = {
         "children(self, field)", "beneath(self, field)",
     ],
     ("judge", "Verdict"): ["__init__(self, forest, settled, records)", "__bool__(self)"],
+    ("teller", "Teller"): ["__init__(self, fields)", "question(self)", "answer(self, record)", "found(self)"],
+    ("hider", "Hider"): ["__init__(self, fields)", "reply(self, older, newer)", "remaining(self)"],
 }
 
 

@@ -20,6 +20,7 @@ BANNED_WORDS = set(
     "type typing typing_extensions enum Enum IntEnum StrEnum Flag IntFlag Generic Protocol ABC ABCMeta namedtuple"
     " NamedTuple TypedDict TYPE_CHECKING abstractmethod register mro elements open input law _record".split()
 )
+LIBRARY = {"math": {"comb", "factorial"}}
 STATEMENTS_AT_THE_TOP = (ast.ImportFrom, ast.FunctionDef, ast.ClassDef, ast.Assign)
 NEVER = (
     ast.GeneratorExp, ast.Global, ast.AsyncFunctionDef, ast.AsyncFor, ast.AsyncWith, ast.Await, ast.Div, ast.Import,
@@ -65,7 +66,11 @@ class LanguageTest(unittest.TestCase):
         for path, tree in self.each():
             imports[path.stem] = set()
             for node in ast.walk(tree):
-                if isinstance(node, ast.ImportFrom):
+                if isinstance(node, ast.ImportFrom) and node.module in LIBRARY:
+                    for alias in node.names:
+                        self.assertIsNone(alias.asname)
+                        self.assertIn(alias.name, LIBRARY[node.module])
+                elif isinstance(node, ast.ImportFrom):
                     package, _, module = node.module.partition(".")
                     self.assertEqual((package, node.level), ("fieldrides", 0))
                     imports[path.stem].add(module)
