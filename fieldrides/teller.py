@@ -46,6 +46,7 @@ class Teller:
         if len(self.order) == self.fields:
             return None
         if self.asks_kind():
+            # The older record has more in the next field, so the answer has its value exactly if the kind is "up".
             return self.pair_for("up", [])
         return self.pair_for(self.kinds[-1], self.order[self.middle() - 1:])
 
@@ -58,7 +59,7 @@ class Teller:
         self.answers += 1
         comes = [record[field] == pair[0][field] for field in range(self.fields)]
         if self.asks_kind():
-            self.take_kind("up" if comes[len(self.order)] else "down")
+            self.kinds.append("up" if comes[len(self.order)] else "down")
         else:
             self.take_half(comes)
         if self.high == self.low + 1:
@@ -87,13 +88,6 @@ class Teller:
         newer = tuple([1 if with_more.get(field) == "newer" else 0 for field in range(self.fields)])
         return older, newer
 
-    def take_kind(self, kind):
-        """Take the kind of the next field; its parent can stand at every place."""
-        self.kinds.append(kind)
-        self.low = 0
-        self.high = len(self.order) + 1
-        self.moved = []
-
     def take_half(self, comes):
         """Take for each field whether it comes from the older record, which is better in the next field alone."""
         middle = self.middle()
@@ -105,7 +99,7 @@ class Teller:
             self.low = middle
 
     def put_in(self):
-        """Put the next field in at the only place that is left."""
+        """Put the next field in behind its parent; the parent of the field after it can stand at every place."""
         field = len(self.order)
         parent = None if self.low == 0 else self.order[self.low - 1]
         for child in self.moved:
@@ -113,6 +107,9 @@ class Teller:
                 self.parents[child] = field
         self.parents.append(parent)
         self.order.insert(self.low, field)
+        self.low = 0
+        self.high = len(self.order) + 1
+        self.moved = []
 
 
 def check_answer(pair, record):

@@ -102,7 +102,9 @@ class HiderTest(unittest.TestCase):
     def test_records_of_a_wrong_length(self):
         hider = Hider(2)
         before = seen(hider)
-        for older, newer, bad in (((1,), (1, 2), (1,)), ((1, 2), (1, 2, 3), (1, 2, 3)), ((), (1,), ()), ((1, 2), (), ())):
+        for older, newer, bad in (
+            ((1,), (1, 2), (1,)), ((1, 2), (1, 2, 3), (1, 2, 3)), ((), (1,), ()), ((1, 2), (), ()),
+        ):
             with self.assertRaises(BadRecord) as caught:
                 hider.reply(older, newer)
             self.assertEqual(caught.exception.record, bad)

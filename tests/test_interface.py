@@ -34,6 +34,17 @@ FUNCTIONS = {
         "can_strike(forest, records, index)",
     ],
     "moments": ["press_moments(forest, records, *, behind=True)", "bad_moment(forest, *, behind=True)"],
+    "stamps": ["stamped(forest)", "stamp_row(forest, records)"],
+    "plans": [
+        "run_plan(book, plan, records)", "all_ends(book, records, *, order='rows')",
+        "plan_for(book, records, end, *, order='rows')", "unlike_plans(book, records, *, order='rows')",
+    ],
+    "lots": [
+        "lot_end(forest, records)", "bearers(forest, records, field)", "fewest_records(forest, records)",
+        "spare_records(forest, records, losses)", "needy_lot(forest, losses)", "ends_without(forest, records)",
+        "mixed_lot(forest, first, second)", "never_mixed(forest)",
+    ],
+    "lattice": ["is_below(forest, first, second)", "meet(forest, records)"],
 }
 
 CLASSES = {
@@ -45,6 +56,11 @@ CLASSES = {
     ("judge", "Verdict"): ["__init__(self, forest, settled, records)", "__bool__(self)"],
     ("teller", "Teller"): ["__init__(self, fields)", "question(self)", "answer(self, record)", "found(self)"],
     ("hider", "Hider"): ["__init__(self, fields)", "reply(self, older, newer)", "remaining(self)"],
+    ("logs", "Log"): [
+        "__init__(self, forest)", "put(self, record)", "mark(self)", "release(self, mark)", "read(self, mark=None)",
+        "press(self, place)", "press_all(self)", "marks(self)", "__len__(self)", "__iter__(self)",
+    ],
+    ("lattice", "Copy"): ["__init__(self, forest, record)", "__or__(self, other)", "__and__(self, other)"],
 }
 
 

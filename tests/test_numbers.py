@@ -81,7 +81,8 @@ class CountTest(unittest.TestCase):
                 words = sum((-1) ** i * comb(others, i) * (others + 1 - i) ** (fields - 1) for i in range(others + 1))
                 self.assertEqual(count_by_leaves(fields, leaves), comb(fields, max(others, 0)) * words)
             # With paths of 2 fields, some fields are roots, and each other one hangs on one of these.
-            self.assertEqual(count_low(fields, 2), sum(comb(fields, k) * k ** (fields - k) for k in range(1, fields + 1)))
+            low = sum(comb(fields, roots) * roots ** (fields - roots) for roots in range(1, fields + 1))
+            self.assertEqual(count_low(fields, 2), low)
             by_leaves = sum(count_by_leaves(fields, leaves) * 2 ** leaves for leaves in range(21))
             self.assertEqual(count_forests(fields), 2 ** fields * by_leaves)
 

@@ -72,9 +72,14 @@ class RowEndTest(unittest.TestCase):
         self.assertEqual(row_end(Forest([None, 0], ["down", "up"]), [(-big + 1, 9), (-big, 3), (-big, 2)]), (-big, 3))
 
     def test_the_row_is_not_changed(self):
+        forest = Forest([None, 0], ["up", "last"])
         row = [(1, 2), (3, 4), (3, 5)]
-        row_end(Forest([None, 0], ["up", "last"]), row)
-        self.assertEqual(row, [(1, 2), (3, 4), (3, 5)])
+        for call in (
+            lambda: row_end(forest, row), lambda: keepers(forest, row), lambda: can_strike(forest, row, 1),
+        ):
+            first = call()
+            self.assertEqual(row, [(1, 2), (3, 4), (3, 5)])
+            self.assertEqual(call(), first)
 
 
 class ErrorsOfRowsTest(unittest.TestCase):
@@ -213,8 +218,10 @@ class CanStrikeTest(unittest.TestCase):
                     around = [([], [])] if others else []
                     around += [([x], []) for x in records] + [([], [x]) for x in records]
                     around += [([x], [y]) for x, y in combinations(records, 2)]
-                    alike = all(end_in_turn(forest, before + row + after) == end_in_turn(forest, before + others + after)
-                                for before, after in around)
+                    alike = all(
+                        end_in_turn(forest, before + row + after) == end_in_turn(forest, before + others + after)
+                        for before, after in around
+                    )
                     self.assertIs(can_strike(forest, row, index), alike)
 
     def test_no_such_record(self):
