@@ -3,14 +3,7 @@
 from fieldrides.forests import Forest
 from fieldrides.kinds import is_ranked, kind_by, side_by
 from fieldrides.parting import parting_among
-
-
-def marked_row(fields, pair, marks):
-    """The row in which the fields of the pair have these signs and all others the sign 0."""
-    row = [0] * fields
-    for field, mark in zip(pair, marks):
-        row[field] = mark
-    return tuple(row)
+from fieldrides.walks import marked_row
 
 
 def lone_kind(book, field):

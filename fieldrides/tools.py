@@ -55,6 +55,12 @@ def check_place(many, place):
         raise BadPlace(place)
 
 
+def check_places(many, places):
+    """Raise BadPlace for the first of the places that is not one of so many that are numbered from 0."""
+    for place in places:
+        check_place(many, place)
+
+
 def without(records, index):
     """A new list of the records without the one with this index."""
     others = list(records)

@@ -10,6 +10,14 @@ from fieldrides.trees import branch
 SIGNS = (-1, 0, 1)
 
 
+def marked_row(fields, places, marks):
+    """The row in which the fields of the places have these signs and all others the sign 0."""
+    row = [0] * fields
+    for field, mark in zip(places, marks):
+        row[field] = mark
+    return tuple(row)
+
+
 def nothing_known(fields):
     """The known signs that stand for all rows."""
     return (None,) * fields

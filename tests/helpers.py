@@ -4,6 +4,12 @@ from itertools import product
 
 from fieldrides.forests import Forest, book_of
 
+# Forests that are not fair, each with the field that NotFair names.
+UNFAIR = (
+    (Forest([None, 0, 0], ["up", "last", "first"]), 1), (Forest([None, None], ["first", "up"]), 0),
+    (Forest([1, None], ["last", "down"]), 0),
+)
+
 
 def all_rows(fields):
     return list(product((-1, 0, 1), repeat=fields))
@@ -196,3 +202,14 @@ def end_in_any_order(rng, forest, records):
     lot = list(records) + rng.choices(records, k=3)
     rng.shuffle(lot)
     return end_of_neighbours(rng, forest, lot)
+
+
+def below_by_words(forest, x, y):
+    """Whether x is below y, word for word after point 49."""
+    for field in range(forest.fields):
+        unlike = [step for step in path_of(forest.parents, field) if x[step] != y[step]]
+        if unlike:
+            higher = y[unlike[0]] > x[unlike[0]]
+            if higher != (forest.kinds[unlike[0]] == "up"):
+                return False
+    return True

@@ -45,6 +45,25 @@ FUNCTIONS = {
         "mixed_lot(forest, first, second)", "never_mixed(forest)",
     ],
     "lattice": ["is_below(forest, first, second)", "meet(forest, records)"],
+    "runs": [
+        "run_steps(forest, sizes)", "rank_of(forest, sizes, record)", "changes_left(forest, sizes, record)",
+        "count_below(forest, sizes, record)", "count_runs(forest, sizes)", "longest_run(forest, sizes)",
+    ],
+    "writes": [
+        "written(forest, base, changes)", "lands(forest, base, changes)", "blocked_fields(forest, base, changes)",
+        "nearest_raises(forest, base, changes)", "fewest_raises(forest, base, changes)",
+        "with_raises(forest, base, changes, stamps)", "reach(forest, fields)", "both_stay(forest, first, second)",
+    ],
+    "letters": [
+        "receive(forest, copy, letter)", "winning_fields(forest, known, copy)", "least_letter(forest, known, copy)",
+        "left_out_shows(forest, known, copy, field)",
+    ],
+    "firm": ["firm_fields(forest, copy, bound)", "moving_letter(forest, copy, bound, field)"],
+    "editions": [
+        "unlike_fields(first, second)", "parting_pair(first, second, field)", "drop(forest, fields)",
+        "drop_witness(forest, fields)", "graft(forest, parent, kind)", "change(forest, field, parent, kind)",
+        "change_plan(first, second)",
+    ],
 }
 
 CLASSES = {

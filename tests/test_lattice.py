@@ -6,23 +6,12 @@ from fieldrides.forests import Forest
 from fieldrides.lattice import Copy, is_below, meet
 from fieldrides.stamps import stamp_row, stamped
 from tests.helpers import (
-    all_forests, all_records, end_in_turn, merged_by_words, path_of, random_forest, random_record, random_row,
+    UNFAIR, all_forests, all_records, below_by_words, end_in_turn, merged_by_words, random_forest, random_record,
+    random_row,
 )
 
 PAIR = Forest([None, 0], ["up", "up"])
-UNFAIR = ((Forest([None, 0, 0], ["up", "last", "first"]), 1), (Forest([None, None], ["first", "down"]), 0))
 FAIR = {fields: [forest for forest in all_forests(fields) if forest.fair] for fields in (1, 2)}
-
-
-def below_by_words(forest, x, y):
-    """Whether x is below y, word for word after point 49."""
-    for field in range(forest.fields):
-        unlike = [step for step in path_of(forest.parents, field) if x[step] != y[step]]
-        if unlike:
-            higher = y[unlike[0]] > x[unlike[0]]
-            if higher != (forest.kinds[unlike[0]] == "up"):
-                return False
-    return True
 
 
 class IsBelowTest(unittest.TestCase):
