@@ -26,8 +26,12 @@ def grid(fields, places):
 
 def parting_among(book, places):
     """Three records with the values 0, 1 and 2 in these places and 0 elsewhere that part, or None."""
-    records = grid(book.fields, places)
-    # Merges of these records are among them, so a table of all merges of two is enough.
+    return parting_of(book, grid(book.fields, places))
+
+
+def parting_of(book, records):
+    """Three of the records that part, or None; the merges of each two of them must be among them."""
+    # Then a table of all merges of two is enough.
     merged = {}
     for x in records:
         for y in records:

@@ -1,6 +1,7 @@
 """Trees: nested asks that tell a side for a row of signs."""
 
-MIRRORED_ENDS = {"older": "newer", "newer": "older"}
+# Trees of plain fields have the end "clash", too, which names neither record.
+MIRRORED_ENDS = {"older": "newer", "newer": "older", "clash": "clash"}
 
 
 def branch(tree, mark):

@@ -2,6 +2,9 @@
 
 Known signs are a tuple with -1, 0, 1 or None (not known) for each field. They stand for all rows of
 signs that agree with them, so that no list of rows is needed.
+
+The sign of the field of a tree is never 0 in the rows that lead to its ends. A tree that tells the side of
+no ranked field has None in the place of the field, and then all rows count.
 """
 
 from fieldrides.tools import with_value
@@ -72,7 +75,7 @@ def common_side(tree, field, known):
 def row_of(known, field):
     """A row with the known signs, in which the sign of the field is not 0."""
     row = [0 if mark is None else mark for mark in known]
-    if known[field] is None:
+    if field is not None and known[field] is None:
         row[field] = 1
     return tuple(row)
 

@@ -64,6 +64,10 @@ FUNCTIONS = {
         "drop_witness(forest, fields)", "graft(forest, parent, kind)", "change(forest, field, parent, kind)",
         "change_plan(first, second)",
     ],
+    "mends": ["book_words(book)", "mend(book)"],
+    "plain": ["clash_pair(plain_book, records, which)", "count_plain(fields, plain)"],
+    "plainjudge": ["decide_plain(forest, tree)"],
+    "houses": ["replayed(forest, start, houses, journal)"],
 }
 
 CLASSES = {
@@ -80,6 +84,15 @@ CLASSES = {
         "press(self, place)", "press_all(self)", "marks(self)", "__len__(self)", "__iter__(self)",
     ],
     ("lattice", "Copy"): ["__init__(self, forest, record)", "__or__(self, other)", "__and__(self, other)"],
+    ("plain", "PlainBook"): ["__init__(self, forest, hangs)", "__call__(self, older, newer)", "end(self, records)"],
+    ("plainjudge", "PlainVerdict"): ["__init__(self, alike, hang, records)"],
+    ("houses", "Web"): [
+        "__init__(self, forest, start, houses)", "write(self, house, changes)", "send(self, house, to)",
+        "deliver(self, number)", "keep(self, house)", "fall(self, house)", "acknowledge(self, number)",
+        "copy_of(self, house)", "kept_of(self, house)", "floor_of(self, house, to)", "heard_by(self, house)",
+        "record_of(self, number)", "letter_of(self, number)", "journal(self)",
+    ],
+    ("desk", "Desk"): ["__init__(self)", "run(self, line)", "run_all(self, lines)", "journal(self)"],
 }
 
 

@@ -31,6 +31,15 @@ def parsed(path):
     return ast.parse(path.read_text(encoding="utf-8"))
 
 
+def defined_names(path):
+    """The functions, classes and names with a plain value that a file defines at its top."""
+    for node in parsed(path).body:
+        if isinstance(node, (ast.FunctionDef, ast.ClassDef)):
+            yield node.name
+        if isinstance(node, ast.Assign):
+            yield node.targets[0].id
+
+
 def bound_names(tree):
     """Every name that is assigned or is a parameter, with its line."""
     for node in ast.walk(tree):
@@ -74,7 +83,7 @@ class LanguageTest(unittest.TestCase):
                     package, _, module = node.module.partition(".")
                     self.assertEqual((package, node.level), ("fieldrides", 0))
                     imports[path.stem].add(module)
-                    defined = [getattr(part, "name", None) for part in parsed(PACKAGE / f"{module}.py").body]
+                    defined = list(defined_names(PACKAGE / f"{module}.py"))
                     for alias in node.names:
                         self.assertIsNone(alias.asname)
                         self.assertIn(alias.name, defined)
