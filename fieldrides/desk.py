@@ -139,7 +139,6 @@ class Desk:
             raise BadLine(None)
         if words[0] in CHANGING:
             return self.change_by(line, words)
-        check_many(words, 1)
         if line == "undo":
             moved = self.move(self.carried, self.undone)
             return f"undone {moved}"

@@ -89,7 +89,7 @@ def wrong_plain_row(forest, hang, end, known):
     return wrong_row(forest, hang, end, known)
 
 
-def records_against(book, hang):
+def plain_records_against(book, hang):
     """Three plain records that part because the tree goes against the hang at some end, or None."""
     for end, known in ways(book.tree, None, nothing_known(book.forest.fields)):
         row = None if known is None else wrong_plain_row(book.forest, hang, end, known)
@@ -108,5 +108,5 @@ def decide_plain(forest, tree):
     if records is None:
         hang, records = find_hang(book)
     if records is None:
-        records = records_against(book, hang)
+        records = plain_records_against(book, hang)
     return PlainVerdict(records is None, hang if records is None else None, records)

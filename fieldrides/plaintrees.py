@@ -46,9 +46,10 @@ def plain_pair(row):
 
 def parting_in_fields(book, places):
     """Three plain records that differ in these two ranked fields and the plain field alone and part, or None."""
-    values = (CLASH, OLDER_VALUE, NEWER_VALUE, NEWER_VALUE + 1)
-    records = grid(book.forest.fields, places)
-    return parting_of(book, [(ranked, (value,)) for ranked in records for value in values])
+    records = []
+    for ranked in grid(book.forest.fields, places):
+        records.extend([(ranked, (value,)) for value in (CLASH, OLDER_VALUE, NEWER_VALUE)])
+    return parting_of(book, records)
 
 
 def parting_beneath(book, ruler, x, y):
